@@ -1,0 +1,1 @@
+"""Spentblocks: how long a store of wearing blocks can be sure to serve."""
