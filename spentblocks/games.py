@@ -1,0 +1,104 @@
+"""All views that can be come to: stands, each with the puts to come that are known (none, in the plain case)."""
+
+from spentblocks.errors import TooMany
+from spentblocks.moves import acts_on, blocks_behind, is_served
+
+
+class Layouts:
+    """Blocks as stands have them, numbered: most views share theirs with many others."""
+
+    def __init__(self, replies):
+        self._replies = replies
+        self._numbers = {}
+        self._ends = {}
+        self.rows = []
+
+    def number(self, blocks):
+        """The number of these blocks."""
+        if blocks not in self._numbers:
+            self._numbers[blocks] = len(self.rows)
+            self.rows.append(blocks)
+        return self._numbers[blocks]
+
+    def ends(self, layout, asked):
+        """For each act, in their order: whether "done" serves the put, and a dict from replies to layouts."""
+        if (layout, asked) not in self._ends:
+            blocks = self.rows[layout]
+            self._ends[(layout, asked)] = [self._end(blocks, asked, act) for act in acts_on(blocks)]
+        return self._ends[(layout, asked)]
+
+    def _end(self, blocks, asked, act):
+        behind = {reply: self.number(blocks_behind(blocks, asked, act, reply)) for reply in self._replies}
+        return (is_served(act, "done"), behind)
+
+
+class Game:
+    """The views that can be come to from some first ones, numbered as they are found, and the ways between them.
+
+    A view is a tuple (layout, fails, cuts, asked, row). Its ways are, at rest, the numbers of the views behind each
+    key that is told; while a put is asked, for each act the list of the numbers of the views behind the let replies.
+    """
+
+    def __init__(self, keys, replies, most):
+        self._many_keys = keys
+        self._most = most
+        self._numbers = {}
+        self._layouts = Layouts(replies)
+        self.views = []
+        self.ways = []
+
+    def enter(self, shape, row):
+        """Numbers the view of this shape and row."""
+        _, blocks, fails, cuts, asked = shape
+        self._number((self._layouts.number(blocks), fails, cuts, asked, row))
+
+    def explore(self):
+        """Finds all views that can be come to from those that are there."""
+        while len(self.ways) < len(self.views):
+            view = self.views[len(self.ways)]
+            self.ways.append(self._told(view) if view[3] is None else self._answered(view))
+
+    def _number(self, view):
+        at = self._numbers.get(view)
+        if at is not None:
+            return at
+        if len(self.views) == self._most:
+            raise TooMany(self._most)
+        self._numbers[view] = len(self.views)
+        self.views.append(view)
+        return self._numbers[view]
+
+    def _told(self, view):
+        layout, fails, cuts, _, row = view
+        known = [row + (key,) for key in range(self._many_keys)]
+        return [self._number((layout, fails, cuts, keys[0], keys[1:])) for keys in known]
+
+    def _answered(self, view):
+        layout, fails, cuts, asked, row = view
+        ways = []
+        for serves, behind in self._layouts.ends(layout, asked):
+            way = [self._number((behind["done"], fails, cuts, None if serves else asked, row))]
+            if fails > 0:
+                way.append(self._number((behind["bad"], fails - 1, cuts, asked, row)))
+            if cuts > 0:
+                way.append(self._number((behind["cut"], fails, cuts - 1, None, row)))
+                way.append(self._number((behind["late"], fails, cuts - 1, None, row)))
+            ways.append(way)
+        return ways
+
+    def is_rest(self, at):
+        """Whether the view is at rest."""
+        return self.views[at][3] is None
+
+    def blocks(self, at):
+        """The blocks of the view, as a tuple."""
+        return self._layouts.rows[self.views[at][0]]
+
+    def shape(self, at):
+        """The shape of the view."""
+        _, fails, cuts, asked, _ = self.views[at]
+        return (self._many_keys, self.blocks(at), fails, cuts, asked)
+
+    def row(self, at):
+        """The puts to come that are known in the view."""
+        return self.views[at][4]

@@ -1,0 +1,68 @@
+"""[36] and [2] to [4]: the names, the files and the kinds of arguments."""
+
+import ast
+import importlib
+import inspect
+import pathlib
+import unittest
+
+from spentblocks.stands import Stand
+
+PACKAGE = pathlib.Path(__file__).resolve().parent.parent / "spentblocks"
+
+FUNCTIONS = {
+    "stands": {"stand_of": "(shape)", "fresh": "(keys, blocks, pages, left, fails, cuts)"},
+    "names": {"renamed": "(stand, blocks, keys)", "first_name": "(stand)"},
+    "lives": {"life": "(stand, *, most=20000)", "plan": "(stand, *, most=20000)",
+              "enemy_plan": "(stand, *, most=20000)"},
+    "judges": {"plan_fault": "(stand, n, thing)", "enemy_fault": "(stand, n, thing)"},
+    "ahead": {"life_ahead": "(stand, row, *, most=20000)", "plan_ahead": "(stand, row, *, most=20000)",
+              "enemy_ahead": "(stand, row, *, most=20000)", "worths": "(stand, window, *, most=20000)"},
+    "aheadjudges": {"plan_ahead_fault": "(stand, row, n, thing)", "enemy_ahead_fault": "(stand, row, n, thing)"},
+}
+
+METHODS = {
+    "many": "(self)", "blocks": "(self)", "fails": "(self)", "cuts": "(self)", "asked": "(self)",
+    "where": "(self, key)", "shape": "(self)", "__eq__": "(self, other)", "put": "(self, key)", "acts": "(self)",
+    "replies": "(self, act)", "after": "(self, act, reply)", "served": "(self, act, reply)",
+}
+
+
+def defined(module):
+    """The names of the functions and classes that the file itself defines."""
+    tree = ast.parse((PACKAGE / f"{module}.py").read_text())
+    return {node.name for node in tree.body if isinstance(node, (ast.FunctionDef, ast.ClassDef))}
+
+
+class Interface(unittest.TestCase):
+
+    def test_functions_stand_in_their_files_with_their_arguments(self):
+        for module, functions in FUNCTIONS.items():
+            for name, arguments in functions.items():
+                with self.subTest(module=module, name=name):
+                    self.assertIn(name, defined(module))
+                    function = getattr(importlib.import_module(f"spentblocks.{module}"), name)
+                    self.assertEqual(str(inspect.signature(function)), arguments)
+
+    def test_the_methods_of_a_stand_stand_in_its_class(self):
+        self.assertIn("Stand", defined("stands"))
+        for name, arguments in METHODS.items():
+            with self.subTest(name):
+                self.assertEqual(str(inspect.signature(vars(Stand)[name])), arguments)
+        self.assertEqual(str(inspect.signature(Stand)), "(keys, blocks, fails, cuts, *, asked=None)")
+
+    def test_errors_stand_in_their_file(self):
+        tree = ast.parse((PACKAGE / "errors.py").read_text())
+        self.assertTrue(all(isinstance(node, ast.ClassDef) for node in tree.body[1:]))
+
+    def test_what_the_document_excludes_is_not_there(self):
+        for path in PACKAGE.glob("*.py"):
+            for node in ast.walk(ast.parse(path.read_text())):
+                if isinstance(node, ast.ImportFrom):
+                    first = node.module.split(".")[0]
+                    self.assertIn(first, ("spentblocks", "heapq", "math", "itertools", "collections"))
+                self.assertNotIsInstance(node, ast.Import)
+
+
+if __name__ == "__main__":
+    unittest.main()
