@@ -1,7 +1,10 @@
 """All views that can be come to: stands, each with the puts to come that are known (none, in the plain case)."""
 
-from spentblocks.errors import TooMany
+from spentblocks.errors import NoMost, TooMany
 from spentblocks.moves import acts_on, blocks_behind, is_served
+from spentblocks.parts import is_whole
+
+MOST_STANDS = 100000
 
 
 class Layouts:
@@ -10,6 +13,7 @@ class Layouts:
     def __init__(self, replies):
         self._replies = replies
         self._numbers = {}
+        self._acts = {}
         self._ends = {}
         self.rows = []
 
@@ -20,14 +24,21 @@ class Layouts:
             self.rows.append(blocks)
         return self._numbers[blocks]
 
+    def acts(self, layout):
+        """All acts while a put is asked, in their order."""
+        if layout not in self._acts:
+            self._acts[layout] = acts_on(self.rows[layout])
+        return self._acts[layout]
+
     def ends(self, layout, asked):
-        """For each act, in their order: whether "done" serves the put, and a dict from replies to layouts."""
+        """For each act, in their order: what `end` tells."""
         if (layout, asked) not in self._ends:
-            blocks = self.rows[layout]
-            self._ends[(layout, asked)] = [self._end(blocks, asked, act) for act in acts_on(blocks)]
+            self._ends[(layout, asked)] = [self.end(layout, asked, act) for act in self.acts(layout)]
         return self._ends[(layout, asked)]
 
-    def _end(self, blocks, asked, act):
+    def end(self, layout, asked, act):
+        """Whether "done" serves the put, and a dict from the replies to the layouts behind the act."""
+        blocks = self.rows[layout]
         behind = {reply: self.number(blocks_behind(blocks, asked, act, reply)) for reply in self._replies}
         return (is_served(act, "done"), behind)
 
@@ -40,7 +51,9 @@ class Game:
     """
 
     def __init__(self, keys, replies, most):
-        self._many_keys = keys
+        if not is_whole(most, 1, MOST_STANDS):
+            raise NoMost()
+        self._keys = keys
         self._most = most
         self._numbers = {}
         self._layouts = Layouts(replies)
@@ -48,9 +61,9 @@ class Game:
         self.ways = []
 
     def enter(self, shape, row):
-        """Numbers the view of this shape and row."""
+        """Numbers the view of this shape and row, if it is new; returns its number."""
         _, blocks, fails, cuts, asked = shape
-        self._number((self._layouts.number(blocks), fails, cuts, asked, row))
+        return self._number((self._layouts.number(blocks), fails, cuts, asked, row))
 
     def explore(self):
         """Finds all views that can be come to from those that are there."""
@@ -70,25 +83,31 @@ class Game:
 
     def _told(self, view):
         layout, fails, cuts, _, row = view
-        known = [row + (key,) for key in range(self._many_keys)]
+        known = [row + (key,) for key in range(self._keys)]
         return [self._number((layout, fails, cuts, keys[0], keys[1:])) for keys in known]
 
     def _answered(self, view):
-        layout, fails, cuts, asked, row = view
-        ways = []
-        for serves, behind in self._layouts.ends(layout, asked):
-            way = [self._number((behind["done"], fails, cuts, None if serves else asked, row))]
-            if fails > 0:
-                way.append(self._number((behind["bad"], fails - 1, cuts, asked, row)))
-            if cuts > 0:
-                way.append(self._number((behind["cut"], fails, cuts - 1, None, row)))
-                way.append(self._number((behind["late"], fails, cuts - 1, None, row)))
-            ways.append(way)
-        return ways
+        layout, _, _, asked, _ = view
+        return [self._way(view, end) for end in self._layouts.ends(layout, asked)]
+
+    def _way(self, view, end):
+        _, fails, cuts, asked, row = view
+        serves, behind = end
+        way = [self._number((behind["done"], fails, cuts, None if serves else asked, row))]
+        if fails > 0:
+            way.append(self._number((behind["bad"], fails - 1, cuts, asked, row)))
+        if cuts > 0:
+            way.append(self._number((behind["cut"], fails, cuts - 1, None, row)))
+            way.append(self._number((behind["late"], fails, cuts - 1, None, row)))
+        return way
 
     def is_rest(self, at):
         """Whether the view is at rest."""
         return self.views[at][3] is None
+
+    def acts(self, at):
+        """All acts at the asked view, in the order of its ways."""
+        return self._layouts.acts(self.views[at][0])
 
     def blocks(self, at):
         """The blocks of the view, as a tuple."""
@@ -96,9 +115,21 @@ class Game:
 
     def shape(self, at):
         """The shape of the view."""
-        _, fails, cuts, asked, _ = self.views[at]
-        return (self._many_keys, self.blocks(at), fails, cuts, asked)
+        return self.shape_in(self.views[at])
+
+    def shape_in(self, view):
+        """The shape in a tuple of a view."""
+        layout, fails, cuts, asked, _ = view
+        return (self._keys, self._layouts.rows[layout], fails, cuts, asked)
 
     def row(self, at):
         """The puts to come that are known in the view."""
         return self.views[at][4]
+
+
+class ToldGame(Game):
+    """The game in which just the puts of the row are asked, one after another."""
+
+    def _told(self, view):
+        layout, fails, cuts, _, row = view
+        return [self._number((layout, fails, cuts, row[0], row[1:]))] if row else []

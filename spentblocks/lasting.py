@@ -1,12 +1,9 @@
 """What each view of a game lasts, and how a store makes it so."""
 
-from spentblocks.errors import NoMost
 from spentblocks.games import Game
-from spentblocks.moves import acts_on, let_replies
-from spentblocks.parts import is_whole
+from spentblocks.moves import free_pages, let_replies
 
 FOREVER = 1000000000
-MOST_STANDS = 100000
 
 
 class Solution:
@@ -62,7 +59,7 @@ class Solution:
 
     def act(self, at):
         """The act to make in an asked view."""
-        return acts_on(self.game.blocks(at))[self.picks[at]]
+        return self.game.acts(at)[self.picks[at]]
 
 
 class Ring:
@@ -160,8 +157,7 @@ def stage(game, at):
     lefts = tuple([left if isinstance(left, int) else 0 for left, pages in blocks])
     if can_go_round(blocks):
         return (fails, cuts, lefts, -1, -1)
-    free = sum([pages.count("free") for left, pages in blocks])
-    return (fails, cuts, lefts, free, 1 if game.is_rest(at) else 0)
+    return (fails, cuts, lefts, free_pages(blocks), 1 if game.is_rest(at) else 0)
 
 
 def can_go_round(blocks):
@@ -171,8 +167,6 @@ def can_go_round(blocks):
 
 def solved(stand, rows, most):
     """The solution of the game from the stand with each of the rows; their views have the numbers from 0 on."""
-    if not is_whole(most, 1, MOST_STANDS):
-        raise NoMost()
     game = Game(stand.many(), let_replies(stand.fails(), stand.cuts()), most)
     for row in rows:
         game.enter(stand.shape(), row)

@@ -11,6 +11,16 @@ def places(blocks):
     return found
 
 
+def held(block):
+    """The keys whose current copies stand in the block."""
+    return [page for page in block[1] if not isinstance(page, str)]
+
+
+def free_pages(blocks):
+    """The number of the free pages of all blocks (those of good ones: a bad one has none)."""
+    return sum([pages.count("free") for left, pages in blocks])
+
+
 def has_room(block):
     """Whether the block can be written to (a bad one has no free page)."""
     return "free" in block[1]
@@ -21,7 +31,18 @@ def can_be_erased(block):
     left, pages = block
     if left is None or left == 0 or pages.count("free") == len(pages):
         return False
-    return all([isinstance(page, str) for page in pages])
+    return not held(block)
+
+
+def clearing_act(blocks, b):
+    """What sets the block b free: its erase, or before it the copy of its least key; None if no room is for that."""
+    keys = held(blocks[b])
+    if not keys:
+        return ("erase", b)
+    roomy = [other for other, block in enumerate(blocks) if other != b and has_room(block)]
+    if not roomy:
+        return None
+    return ("copy", min(keys), roomy[0])
 
 
 def acts_on(blocks):

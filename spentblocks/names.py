@@ -1,6 +1,7 @@
 """Other names for the blocks and the keys of a stand."""
 
 from spentblocks.errors import NoNames
+from spentblocks.moves import held
 from spentblocks.parts import is_count
 from spentblocks.stands import Stand
 
@@ -28,7 +29,7 @@ def first_name(stand):
     """The renaming (blocks, keys) that makes alike stands equal."""
     rows = stand.blocks()
     order = sorted(range(len(rows)), key=lambda b: block_rank(rows[b], stand.asked()))
-    keys = [page for b in order for page in rows[b][1] if not isinstance(page, str)]
+    keys = [key for b in order for key in held(rows[b])]
     if stand.asked() is not None and stand.asked() not in keys:
         keys.append(stand.asked())
     keys.extend([key for key in range(stand.many()) if key not in keys])

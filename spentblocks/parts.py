@@ -22,6 +22,11 @@ def is_key(thing, keys):
     return is_whole(thing, 0, keys - 1)
 
 
+def are_keys(things, keys, most):
+    """Whether this is a list of no more than so many items, each of them one of so many keys."""
+    return isinstance(things, list) and len(things) <= most and all([is_key(thing, keys) for thing in things])
+
+
 def wrong_part(keys, blocks, fails, cuts, asked):
     """The name of the first part of a stand that is not as told, or None."""
     if not is_whole(keys, 1, MOST_KEYS):

@@ -1,6 +1,6 @@
 """Plans of a store and of its enemy, as far as they are come to from the view 0 of a solution."""
 
-from spentblocks.moves import acts_on, let_replies
+from spentblocks.moves import let_replies
 
 
 def store_entries(solution):
@@ -58,4 +58,4 @@ def named_replies(solution, at, answers):
     """A dict from each act of the view to the reply that is chosen."""
     _, fails, cuts, _, _ = solution.game.views[at]
     let = let_replies(fails, cuts)
-    return {act: let[reply] for act, reply in zip(acts_on(solution.game.blocks(at)), answers)}
+    return {act: let[reply] for act, reply in zip(solution.game.acts(at), answers)}

@@ -2,7 +2,7 @@
 
 from spentblocks.errors import NoPuts, NotAtRest
 from spentblocks.moves import shape_asked, shape_behind
-from spentblocks.parts import is_key, is_shape
+from spentblocks.parts import are_keys, is_key, is_shape
 
 MOST_WINDOW = 3
 
@@ -58,6 +58,6 @@ def first_view(stand, row):
     """The view of a stand at rest and a list of the puts to come."""
     if stand.asked() is not None:
         raise NotAtRest()
-    if not isinstance(row, list) or len(row) > MOST_WINDOW or not all([is_key(key, stand.many()) for key in row]):
+    if not are_keys(row, stand.many(), MOST_WINDOW):
         raise NoPuts()
     return (stand.shape(), tuple(row))

@@ -91,15 +91,15 @@ def ways(view):
     return found
 
 
-def reach(first):
+def reach(first, ways_on=ways):
     """A dict from all views that can be come to, to their ways."""
-    found = {first: ways(first)}
+    found = {first: ways_on(first)}
     queue = [first]
     while queue:
         for ends in found[queue.pop()].values():
             for view, served in ends:
                 if view not in found:
-                    found[view] = ways(view)
+                    found[view] = ways_on(view)
                     queue.append(view)
     return found
 
@@ -120,9 +120,9 @@ def more(graph, lasting):
     return good
 
 
-def lives(first):
+def lives(first, ways_on=ways):
     """The life of each view that can be come to, None for ever, number by number."""
-    graph = reach(first)
+    graph = reach(first, ways_on)
     found = {}
     lasting = set(graph)
     n = 0
