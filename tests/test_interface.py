@@ -18,6 +18,17 @@ FUNCTIONS = {
     "judges": {"plan_fault": "(stand, n, thing)", "enemy_fault": "(stand, n, thing)"},
     "ahead": {"life_ahead": "(stand, row, *, most=20000)", "plan_ahead": "(stand, row, *, most=20000)",
               "enemy_ahead": "(stand, row, *, most=20000)", "worths": "(stand, window, *, most=20000)"},
+    "advice": {"good_acts": "(stand, *, most=20000)", "hard_keys": "(stand, *, most=20000)",
+               "falls": "(stand, row, *, most=20000)"},
+    "borders": {"goes_on": "(stand)", "kept_free": "(stand)", "lone_life": "(rooms, at)"},
+    "sizes": {"least_left": "(keys, blocks, pages, fails, cuts, puts, *, most=20000)",
+              "least_blocks": "(keys, pages, left, fails, cuts, puts, *, most=20000)"},
+    "policies": {"policy_act": "(stand, policy)", "policy_life": "(stand, policy, *, most=20000)",
+                 "policy_row": "(stand, policy, *, most=20000)", "policy_fault": "(stand, policy, n, thing)"},
+    "rows": {"least_erases": "(stand, puts, *, most=20000)", "acts_fault": "(stand, puts, thing)"},
+    "tables": {"erase_table": "(stand, puts, *, most=20000)", "table_fault": "(stand, puts, n, thing)"},
+    "sums": {"made_good": "(sums, lost)", "good_fault": "(sums, lost, thing)", "survives": "(sums, many)",
+             "worst": "(sums)", "crossed": "(blocks, pages)"},
     "aheadjudges": {"plan_ahead_fault": "(stand, row, n, thing)", "enemy_ahead_fault": "(stand, row, n, thing)"},
 }
 
