@@ -12,7 +12,7 @@ def is_policy(policy):
 
 
 def told_act(shape, policy):
-    """The act that the policy tells at the shape of an asked stand, or None."""
+    """The act that the policy tells at a shape, or None; at rest there is none."""
     acts = shape_acts(shape)
     if isinstance(policy, dict):
         act = policy.get(shape)

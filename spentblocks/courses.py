@@ -37,11 +37,10 @@ def steps_on(game, at):
 
 
 def done_behind(game, at):
-    """The number of the view behind the policy's act and "done", if the put is still asked there; None otherwise."""
+    """The number of the view behind the policy's act and "done"; None at rest and without an act."""
     if game.is_rest(at) or not game.ways[at]:
         return None
-    behind = game.ways[at][0][0]
-    return None if game.is_rest(behind) else behind
+    return game.ways[at][0][0]
 
 
 def rounds(game):

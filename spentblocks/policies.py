@@ -67,7 +67,7 @@ class Course:
 
     def _reach(self, shape):
         self._shape = shape
-        self._act = None if shape[4] is None else told_act(shape, self._policy)
+        self._act = told_act(shape, self._policy)
 
     def is_over(self):
         """Whether there is no act, or the shape was there before since the last put was asked."""

@@ -83,8 +83,7 @@ def way_out(sums, lost):
         if not fit:
             # No row that is left has the page: it changes together with those in whose rows it stands.
             return ("alike", [other for other in ways if ways[other] & bit(page)] + [page])
-        # Each lost page that was looked at stands in its own row alone.
-        rows.remove(fit[0])
+        # Then each lost page that was looked at stands in its own row alone.
         rows = [mixed(row, fit[0], page) for row in rows]
         ways = {other: mixed(ways[other], fit[0], page) for other in ways}
         ways[page] = fit[0]

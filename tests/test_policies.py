@@ -210,6 +210,22 @@ class Lives(unittest.TestCase):
         del book[other.shape()]
         self.assertEqual(policy_row(rest, book), [0, "done", "done"])
 
+    def test_a_round_only_while_fails_or_cuts_are_left(self):
+        # With all losses left the book goes round; with fewer it serves for ever.
+        for fails, cuts in ((1, 0), (0, 1)):
+            stand = Stand(1, [("ever", (0,)), ("ever", ("free",)), ("ever", ("old",))], fails, cuts, asked=0)
+            reached = [shape for shape, _ in slow.reach((stand.shape(), ())) if slow.acts(shape)]
+            book = {shape: slowmore.policy_act(shape, "first") for shape in reached}
+            self.assertIsNone(policy_life(stand, book))
+            end = stand
+            for act in (("copy", 0, 1), ("erase", 0), ("copy", 0, 0), ("erase", 1)):
+                book[end.shape()] = act
+                end = end.after(act, "done")
+            self.assertEqual(end, stand)
+            self.assertEqual(policy_life(stand, book), 0)
+            self.assertEqual(policy_row(stand, book), ["done"] * 4)
+            self.check(stand.shape(), book)
+
     def test_a_stand_that_was_there_ahead_of_the_last_put_is_no_end(self):
         # The put is cut behind an act that changes nothing, and asked again; behind that no power is lost.
         stand = Stand(1, [(0, ("old", "free"))], 0, 2)

@@ -168,6 +168,12 @@ class Faults(unittest.TestCase):
                       ("alike", []), ("alike", None), ("alike", ((1, 0),)), ({}, "made"), ("alike", "1"), STAND, ("made", STAND)]:
             with self.subTest(thing):
                 self.assert_fault(("form",), SUMS, [1], thing)
+        for word in ["Made", "Alike", "", "made ", None, True, 0, ("made",), ["alike"]]:
+            with self.subTest(word):
+                self.assert_fault(("form",), SUMS, [1], (word, {(1, 0): way}))
+                self.assert_fault(("form",), SUMS, [1, 2], (word, [(1, 0), (2, 0)]))
+        self.assert_fault(("form",), SUMS, [1], ("alike", {(1, 0): way}))
+        self.assert_fault(("form",), SUMS, [1, 2], ("made", [(1, 0), (2, 0)]))
         for page in [None, True, 1, "1", (), (1,), (True, 0), (1, False), (9, 0), (1, 6), (-1, 0), (1, 0, 0), ("1", 0)]:
             with self.subTest(page):
                 self.assert_fault(("form",), SUMS, [1], ("made", {page: way}))
