@@ -1,6 +1,6 @@
 """What policies tell, over bare shapes."""
 
-from spentblocks.moves import can_be_erased, clearing_act, free_pages, has_room, held, is_act, shape_acts
+from spentblocks.moves import clearing_act, free_pages, has_room, held, is_act, shape_acts
 from spentblocks.parts import MOST_LEFT
 
 WORDS = ("first", "greedy", "even")

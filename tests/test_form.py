@@ -129,6 +129,14 @@ class Form(unittest.TestCase):
             for name in bound_names(inner):
                 self.assertNotIn(name, taken, path.name)
 
+    def test_imports_are_used_and_stand_once(self):
+        for path in FILES:
+            tree = nodes(path)
+            told = [alias.name for node in tree if isinstance(node, ast.ImportFrom) for alias in node.names]
+            self.assertEqual(len(told), len(set(told)), path.name)
+            used = {node.id for node in tree if isinstance(node, ast.Name)}
+            self.assertEqual(set(told) - used, set(), path.name)
+
     def test_imports_do_not_go_round(self):
         needs = {}
         for path in FILES:
