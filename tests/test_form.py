@@ -29,6 +29,7 @@ BARRED_NODES = (ast.AsyncFunctionDef, ast.Global, ast.GeneratorExp, ast.Yield, a
 
 # Where a barred node is used all the same, by a rule that was looked up.
 LET = {("ahead.py", "Try"): "its own error TooMany, around calls of own functions",
+       ("stores.py", "Try"): "its own errors WentBad, PowerLost and Unserved, around calls of own methods",
        ("sums.py", "SetComp"): "directly in sorted(..)"}
 
 

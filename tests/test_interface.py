@@ -6,8 +6,6 @@ import inspect
 import pathlib
 import unittest
 
-from spentblocks.stands import Stand
-
 PACKAGE = pathlib.Path(__file__).resolve().parent.parent / "spentblocks"
 
 FUNCTIONS = {
@@ -29,13 +27,31 @@ FUNCTIONS = {
     "tables": {"erase_table": "(stand, puts, *, most=20000)", "table_fault": "(stand, puts, n, thing)"},
     "sums": {"made_good": "(sums, lost)", "good_fault": "(sums, lost, thing)", "survives": "(sums, many)",
              "worst": "(sums)", "crossed": "(blocks, pages)"},
+    "records": {"record": "(key, number, value)", "read_record": "(content)"},
+    "stores": {"looked": "(chip, keys)", "stand_seen": "(chip, keys, fails, cuts)"},
     "aheadjudges": {"plan_ahead_fault": "(stand, row, n, thing)", "enemy_ahead_fault": "(stand, row, n, thing)"},
 }
 
+CLASSES = {
+    ("stands", "Stand"): "(keys, blocks, fails, cuts, *, asked=None)",
+    ("chips", "Chip"): "(blocks, pages, left)",
+    ("stores", "Store"): "(chip, keys, adviser)",
+}
+
 METHODS = {
-    "many": "(self)", "blocks": "(self)", "fails": "(self)", "cuts": "(self)", "asked": "(self)",
-    "where": "(self, key)", "shape": "(self)", "__eq__": "(self, other)", "put": "(self, key)", "acts": "(self)",
-    "replies": "(self, act)", "after": "(self, act, reply)", "served": "(self, act, reply)",
+    ("stands", "Stand"): {
+        "many": "(self)", "blocks": "(self)", "fails": "(self)", "cuts": "(self)", "asked": "(self)",
+        "where": "(self, key)", "shape": "(self)", "__eq__": "(self, other)", "put": "(self, key)", "acts": "(self)",
+        "replies": "(self, act)", "after": "(self, act, reply)", "served": "(self, act, reply)",
+    },
+    ("chips", "Chip"): {
+        "size": "(self)", "left": "(self, b)", "read": "(self, b, p)", "tell": "(self, replies)", "told": "(self)",
+        "write": "(self, b, content)", "erase": "(self, b)", "copy": "(self)",
+    },
+    ("stores", "Store"): {
+        "get": "(self, key)", "stand": "(self, fails, cuts)", "put": "(self, key, value, fails, cuts)",
+        "serves": "(self, rows, fails, cuts)",
+    },
 }
 
 
@@ -55,12 +71,15 @@ class Interface(unittest.TestCase):
                     function = getattr(importlib.import_module(f"spentblocks.{module}"), name)
                     self.assertEqual(str(inspect.signature(function)), arguments)
 
-    def test_the_methods_of_a_stand_stand_in_its_class(self):
-        self.assertIn("Stand", defined("stands"))
-        for name, arguments in METHODS.items():
+    def test_classes_and_their_methods_stand_in_their_files(self):
+        self.assertEqual(list(CLASSES), list(METHODS))
+        for (module, name), arguments in CLASSES.items():
             with self.subTest(name):
-                self.assertEqual(str(inspect.signature(vars(Stand)[name])), arguments)
-        self.assertEqual(str(inspect.signature(Stand)), "(keys, blocks, fails, cuts, *, asked=None)")
+                self.assertIn(name, defined(module))
+                found = getattr(importlib.import_module(f"spentblocks.{module}"), name)
+                self.assertEqual(str(inspect.signature(found)), arguments)
+                for method, told in METHODS[(module, name)].items():
+                    self.assertEqual(str(inspect.signature(vars(found)[method])), told)
 
     def test_errors_stand_in_their_file(self):
         tree = ast.parse((PACKAGE / "errors.py").read_text())
