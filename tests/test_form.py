@@ -30,6 +30,7 @@ BARRED_NODES = (ast.AsyncFunctionDef, ast.Global, ast.GeneratorExp, ast.Yield, a
 # Where a barred node is used all the same, by a rule that was looked up.
 LET = {("ahead.py", "Try"): "its own error TooMany, around calls of own functions",
        ("stores.py", "Try"): "its own errors WentBad, PowerLost and Unserved, around calls of own methods",
+       ("matches.py", "Try"): "a finally that only puts two attributes back",
        ("sums.py", "SetComp"): "directly in sorted(..)"}
 
 
@@ -85,7 +86,7 @@ class Form(unittest.TestCase):
                 self.assertNotRegex(code, rf"\b{word}\b", path.name)
             for name in bound_names(tree):
                 self.assertNotIn(name, BARRED_NAMES + dir(builtins), path.name)
-                self.assertRegex(name, r"\A(__(init|eq)__|_?[A-Za-z][A-Za-z0-9_]*|_)\Z", path.name)
+                self.assertRegex(name, r"\A(__(init|eq|len)__|_?[A-Za-z][A-Za-z0-9_]*|_)\Z", path.name)
 
     def test_no_barred_node(self):
         for path in FILES:

@@ -29,6 +29,8 @@ FUNCTIONS = {
              "worst": "(sums)", "crossed": "(blocks, pages)"},
     "records": {"record": "(key, number, value)", "read_record": "(content)"},
     "stores": {"looked": "(chip, keys)", "stand_seen": "(chip, keys, fails, cuts)"},
+    "texts": {"stand_text": "(stand)", "read_stand": "(text)", "row_text": "(row)", "read_row": "(text)"},
+    "images": {"image_text": "(chip)", "read_image": "(text)"},
     "aheadjudges": {"plan_ahead_fault": "(stand, row, n, thing)", "enemy_ahead_fault": "(stand, row, n, thing)"},
 }
 
@@ -36,6 +38,8 @@ CLASSES = {
     ("stands", "Stand"): "(keys, blocks, fails, cuts, *, asked=None)",
     ("chips", "Chip"): "(blocks, pages, left)",
     ("stores", "Store"): "(chip, keys, adviser)",
+    ("matches", "Match"): "(stand)",
+    ("desk", "Desk"): "()",
 }
 
 METHODS = {
@@ -52,6 +56,11 @@ METHODS = {
         "get": "(self, key)", "stand": "(self, fails, cuts)", "put": "(self, key, value, fails, cuts)",
         "serves": "(self, rows, fails, cuts)",
     },
+    ("matches", "Match"): {
+        "stand": "(self)", "ask": "(self, key)", "make": "(self, act, reply)", "served": "(self)", "row": "(self)",
+        "back": "(self, many)", "__len__": "(self)", "tried": "(self, action)", "best": "(self, *, most=20000)",
+    },
+    ("desk", "Desk"): {"tell": "(self, line)", "undoable": "(self)"},
 }
 
 
